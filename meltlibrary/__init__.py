@@ -1,0 +1,1 @@
+"""Meltlibrary: texts on tablets of ice."""

@@ -1,0 +1,89 @@
+"""Values that are not allowed, with the error that each must raise and its fields."""
+
+from meltlibrary.errors import BadDays, BadLibrary, BadMost, BadNumber
+
+HUGE = 10 ** 30
+
+# One of each kind of value, none of which is ever a library, a tuple of tablets or days.
+STRANGE = [0, 1, -1, HUGE, "", "ab", "texts", True, False, None, [], [0], [(0,)], {}, {0: 1}, {0: 1, 1: 2}]
+
+
+def wrong_libraries():
+    """Pairs of a value that is no library and the part that is wrong."""
+    tablets = ((0,), (1,), (0, 1))
+    found = [(value, "library") for value in STRANGE]
+    found += [(value, "library") for value in [
+        (), (2,), (tablets,), (2, tablets, 2), (2, tablets, ()), [2, tablets], [2, [(0,)]], {2: tablets},
+        {"texts": 2, "tablets": tablets}, (0, (), ()),
+    ]]
+    for texts in STRANGE + [4, 0, (), (2,), [2], {2: 2}, "2"]:
+        if not (type(texts) is int and 1 <= texts <= 3):
+            # Wrong tablets behind wrong texts are not what is named.
+            found += [((texts, tablets), "texts"), ((texts, ()), "texts"), ((texts, None), "texts")]
+    found += [((tablets, 2), "texts")]
+    rows = STRANGE + [
+        (), ((),) * 7, tablets * 3, [(0,), (1,)], [[0], [1]], {(0,): (1,)}, "01", ((0,), "1"), ((0,), [1]),
+        ([0], (1,)), ((0,), 1), (0, 1), ((0,), None), (None,), ((0,), {}), ((0,), {0: 1}), ((0,), True), (False,),
+        ((0,), ""), ((0,), []), ((1, 0),), ((0,), (1, 0)), ((0, 0),), ((0,), (1, 1)), ((0, 1, 0),), ((2,),),
+        ((0,), (1, 2)), ((0, 1, 2),), ((-1,),), ((-1, 0),), ((HUGE,),), ((0,), (True,)), ((False,),), ((False, True),),
+        ((0, True),), (("0",),), (("a",),), ((None,),), ((0, None),), (((0,),),), (((),),), (([],),), (([0],),),
+        (({},),), ((0, {}),), (("",),), ((0, "1"),),
+    ]
+    found += [((2, value), "tablets") for value in rows]
+    found += [((1, ((1,),)), "tablets"), ((1, ((0,), (0, 1))), "tablets"), ((3, ((0, 1, 2, 3),)), "tablets")]
+    found += [((3, ((3,),)), "tablets"), ((3, ((2, 0, 1),)), "tablets"), ((3, ((0, 2, 1),)), "tablets")]
+    return found
+
+
+def wrong_most():
+    """Values that are no most."""
+    return [value for value in STRANGE if value is True or value != 1] + [
+        4, -2, -HUGE, "2", "1", (), (2,), ((),), [2], {2: 2}, {"most": 2},
+    ]
+
+
+def wrong_counts(highest):
+    """Values that are no integer from 1 to highest."""
+    return [value for value in STRANGE if value is True or value != 1] + [
+        highest + 1, -2, -HUGE, "2", "1", (), (2,), ((),), [2], {2: 2}, {"texts": 2},
+    ]
+
+
+def wrong_days():
+    """Pairs of a value that is no days, for a library of three tablets and a most of 1, and the index."""
+    found = [(value, None) for value in STRANGE]
+    found += [(value, None) for value in [
+        [(0, ())], [[0, []]], {0: ()}, {(0, ()): 1}, ((0, ()),) * 61, (None,) * 61, ((0, ()),) * 200,
+        ((9, ()),) + ((0, ()),) * 60,
+    ]]
+    days = STRANGE + [
+        (), (0,), (0, (), ()), [0, ()], [0, []], {0: ()}, (0, []), (0, [1]), (0, {}), (0, {1: 2}), (0, ""), (0, "1"),
+        (0, None), (0, 1), (0, True), (0, False), ((), 0), ((), ()), (None, ()), ("0", ()), ("", ()), ([], ()),
+        ([0], ()), ({}, ()), ((0,), ()), (True, ()), (False, ()), (True, (0,)), (-1, ()), (3, ()), (HUGE, ()),
+        (-HUGE, ()), (0, (0,)), (2, (2,)), (0, (3,)), (0, (-1,)), (0, (HUGE,)), (0, (True,)), (1, (False,)),
+        (0, ("1",)), (0, (None,)), (0, ((),)), (0, ((1,),)), (0, ([],)), (0, ({},)), (0, (1, 2)), (0, (2, 1)),
+        (0, (1, 1)), (0, (0, 1)), (1, (0, 1, 2)), (0, (1, 2, 3)), (0, (None, 1)), (0, (1, None)),
+    ]
+    for day in days:
+        found += [((day,), 0), (((1, ()), (2, (0,)), day, day), 2), (((0, ()),) * 59 + (day,), 59)]
+    return found
+
+
+def library_errors():
+    return [(value, BadLibrary, {"part": part}) for value, part in wrong_libraries()]
+
+
+def most_errors():
+    return [(value, BadMost, {}) for value in wrong_most()]
+
+
+def texts_errors():
+    return [(value, BadNumber, {}) for value in wrong_counts(3)]
+
+
+def tablets_errors():
+    return [(value, BadNumber, {}) for value in wrong_counts(6)]
+
+
+def days_errors():
+    return [(value, BadDays, {"index": index}) for value, index in wrong_days()]
