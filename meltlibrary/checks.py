@@ -1,6 +1,6 @@
 """What every function asks of its arguments."""
 
-from meltlibrary.errors import BadDays, BadLibrary, BadMost, BadNumber
+from meltlibrary.errors import BadDays, BadLibrary, BadMost, BadNumber, BadString, BadTablet
 
 MOST_TEXTS = 3
 MOST_TABLETS = 6
@@ -38,21 +38,35 @@ def are_tablets(value, texts):
     return all(is_ascending(tablet, texts) for tablet in value)
 
 
+def wrong_part(value):
+    """The name of the first part of a value by which it is no library, None for a library."""
+    if not is_pair(value):
+        return "library"
+    texts, tablets = value
+    if not is_within(texts, 1, MOST_TEXTS):
+        return "texts"
+    if not are_tablets(tablets, texts):
+        return "tablets"
+    return None
+
+
 def check_library(library):
     """Raise BadLibrary for a value that is no library."""
-    if not is_pair(library):
-        raise BadLibrary("library")
-    texts, tablets = library
-    if not is_within(texts, 1, MOST_TEXTS):
-        raise BadLibrary("texts")
-    if not are_tablets(tablets, texts):
-        raise BadLibrary("tablets")
+    part = wrong_part(library)
+    if part is not None:
+        raise BadLibrary(part)
 
 
 def check_most(most):
     """Raise BadMost for a value that is no most."""
     if not is_within(most, 1, MOST_WRITTEN_FROM):
         raise BadMost("most is an integer from 1 to 3")
+
+
+def check_game(library, most):
+    """Raise the error of the first of both that is not allowed."""
+    check_library(library)
+    check_most(most)
 
 
 def check_number(number, low, high):
@@ -67,14 +81,29 @@ def check_counts(texts, tablets):
     check_number(tablets, 1, MOST_TABLETS)
 
 
+def check_tablet(number, many):
+    """Raise BadTablet for a value that is no number of one of so many tablets."""
+    if not is_within(number, 0, many - 1):
+        raise BadTablet(f"no number of a tablet, which is from 0 to {many - 1}")
+
+
+def check_string(text):
+    """Raise BadString for a value that is no string."""
+    if not isinstance(text, str):
+        raise BadString("not a string")
+
+
+def is_writing(value, number, many, most):
+    """Whether a value is what can be written in place of the tablet of a number, of so many."""
+    return is_ascending(value, many) and len(value) <= most and number not in value
+
+
 def is_day(value, many, most):
     """Whether a value is a day of a library of so many tablets."""
     if not is_pair(value):
         return False
     number, others = value
-    if not is_within(number, 0, many - 1) or not is_ascending(others, many):
-        return False
-    return len(others) <= most and number not in others
+    return is_within(number, 0, many - 1) and is_writing(others, number, many, most)
 
 
 def check_days(days, many, most):

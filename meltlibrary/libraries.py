@@ -1,6 +1,6 @@
 """Libraries, the sums of their tablets, and what days make of them."""
 
-from meltlibrary.checks import MOST_TEXTS, check_days, check_library, check_most
+from meltlibrary.checks import MOST_TEXTS, check_days, check_game, check_library
 
 
 def mask_of(tablet):
@@ -37,9 +37,15 @@ def all_sums(masks):
     return sums
 
 
+def rank_of(masks):
+    """The least number of the masks of which all others are sums."""
+    # Each mask that is no sum of those ahead doubles the sums.
+    return len(all_sums(masks)).bit_length() - 1
+
+
 def keep_all(masks, texts):
     """Whether so many texts are all kept by the masks."""
-    return len(all_sums(masks)) == (1 << texts)
+    return rank_of(masks) == texts
 
 
 def without(masks, number):
@@ -64,8 +70,7 @@ def spanned(library):
 def rank(library):
     """The least number of its tablets of which all others are sums."""
     check_library(library)
-    # Each tablet that is no sum of those ahead doubles the sums.
-    return len(all_sums(masks_of(library))).bit_length() - 1
+    return rank_of(masks_of(library))
 
 
 def keeps(library):
@@ -83,8 +88,7 @@ def lacking(library):
 
 def after(library, most, days):
     """The library behind the days."""
-    check_library(library)
-    check_most(most)
+    check_game(library, most)
     check_days(days, len(library[1]), most)
     masks = masks_of(library)
     for number, others in days:
@@ -94,8 +98,7 @@ def after(library, most, days):
 
 def lost_on(library, most, days):
     """The number of the first day on which texts are lost by the melting, None without one."""
-    check_library(library)
-    check_most(most)
+    check_game(library, most)
     check_days(days, len(library[1]), most)
     masks = masks_of(library)
     for index, (number, others) in enumerate(days):

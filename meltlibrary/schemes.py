@@ -1,6 +1,6 @@
 """Tame tablets, rings, and schemes: libraries that keep texts for ever."""
 
-from meltlibrary.checks import MOST_TEXTS, check_counts, check_library, check_most, check_number
+from meltlibrary.checks import MOST_TEXTS, check_counts, check_game, check_most, check_number
 from meltlibrary.errors import NoScheme
 from meltlibrary.libraries import choices, keep_all, mask_of, masks_of, sum_at, tablet_of
 
@@ -47,24 +47,21 @@ def least_tablets(texts, most):
 
 def tame(library, most):
     """The ascending tuple of the numbers of the tame tablets."""
-    check_library(library)
-    check_most(most)
+    check_game(library, most)
     masks = masks_of(library)
     return tuple([number for number in range(len(masks)) if is_tame(masks, most, number)])
 
 
 def rings(library, most):
     """The ascending tuple of all rings."""
-    check_library(library)
-    check_most(most)
+    check_game(library, most)
     masks = masks_of(library)
     return tuple([row for row in choices(list(range(len(masks))), most + 1) if is_ring(masks, row)])
 
 
 def is_scheme(library, most):
     """Whether a library keeps all texts and all of its tablets are tame."""
-    check_library(library)
-    check_most(most)
+    check_game(library, most)
     return are_scheme(masks_of(library), library[0], most)
 
 

@@ -1,6 +1,6 @@
 """Values that are not allowed, with the error that each must raise and its fields."""
 
-from meltlibrary.errors import BadDays, BadLibrary, BadMost, BadNumber
+from meltlibrary.errors import BadDays, BadLibrary, BadMost, BadNumber, BadString, BadTablet
 
 HUGE = 10 ** 30
 
@@ -49,6 +49,20 @@ def wrong_counts(highest):
     ]
 
 
+def wrong_integers(low, high):
+    """Values that are no integer from low to high, for a low of 0 and a high above 0."""
+    return [value for value in STRANGE if type(value) is not int or not low <= value <= high] + [
+        low - 1, high + 1, -2, -HUGE, "2", "1", (), (0,), (1,), ((),), [1], {1: 1}, (low, high),
+    ]
+
+
+def wrong_strings():
+    """Values that are no string."""
+    return [value for value in STRANGE if type(value) is not str] + [
+        (), ("texts 1",), ("texts 1", "a"), ["texts 1", "a"], {"texts 1": "a"}, ("",), [""], ("melt 0 write",), (1, ((),)),
+    ]
+
+
 def wrong_days():
     """Pairs of a value that is no days, for a library of three tablets and a most of 1, and the index."""
     found = [(value, None) for value in STRANGE]
@@ -87,3 +101,16 @@ def tablets_errors():
 
 def days_errors():
     return [(value, BadDays, {"index": index}) for value, index in wrong_days()]
+
+
+def number_errors():
+    """For a library of three tablets."""
+    return [(value, BadTablet, {}) for value in wrong_integers(0, 2)]
+
+
+def chance_days_errors():
+    return [(value, BadNumber, {}) for value in wrong_integers(0, 30)]
+
+
+def string_errors():
+    return [(value, BadString, {}) for value in wrong_strings()]
