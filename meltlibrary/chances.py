@@ -35,7 +35,7 @@ def best_chance(library, most, days):
     if not keep_all(masks, library[0]):
         return 0, 1
     start = state_of(masks)
-    play = Play([start], most, library[0])
+    play = Play([start], most, library[0], 1)
     kept = {state: 1 for state in play.rests}
     whole = 1
     for _ in range(days):

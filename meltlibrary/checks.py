@@ -1,11 +1,15 @@
 """What every function asks of its arguments."""
 
-from meltlibrary.errors import BadDays, BadLibrary, BadMost, BadNumber, BadString, BadTablet
+from meltlibrary.errors import BadDays, BadLibrary, BadMost, BadNumber, BadShown, BadString, BadTablet
 
 MOST_TEXTS = 3
 MOST_TABLETS = 6
 MOST_WRITTEN_FROM = 3
 MOST_DAYS = 60
+MOST_MELTS = 3
+MOST_LATE = 3
+MOST_WRONG = 6
+MOST_MELTINGS = 8
 
 
 def is_within(value, low, high):
@@ -81,6 +85,12 @@ def check_counts(texts, tablets):
     check_number(tablets, 1, MOST_TABLETS)
 
 
+def check_flood(library, most, melts):
+    """Raise the error of the first of the three that is not allowed."""
+    check_game(library, most)
+    check_number(melts, 1, min(MOST_MELTS, len(library[1])))
+
+
 def check_tablet(number, many):
     """Raise BadTablet for a value that is no number of one of so many tablets."""
     if not is_within(number, 0, many - 1):
@@ -113,3 +123,20 @@ def check_days(days, many, most):
     for index, day in enumerate(days):
         if not is_day(day, many, most):
             raise BadDays(index)
+
+
+def check_melting_row(row, many):
+    """Raise BadDays for a value that is no melting row of a library of so many tablets."""
+    if not isinstance(row, tuple) or len(row) > MOST_MELTINGS:
+        raise BadDays(None)
+    for index, number in enumerate(row):
+        if not is_within(number, 0, many - 1):
+            raise BadDays(index)
+
+
+def check_shown(value, many):
+    """Raise BadShown for a value that is no tuple of so many figures, each 0 or 1."""
+    if not isinstance(value, tuple) or len(value) != many:
+        raise BadShown(f"no tuple of {many}")
+    if not all(is_within(figure, 0, 1) for figure in value):
+        raise BadShown("not each one is 0 or 1")

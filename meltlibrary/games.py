@@ -1,19 +1,15 @@
 """A librarian who keeps texts, and an enemy who lets tablets melt."""
 
 from meltlibrary.checks import MOST_TABLETS, check_game, check_tablet, wrong_part
-from meltlibrary.libraries import choices, keep_all, mask_of, masks_of, rank_of, sum_at, tablet_of, without
+from meltlibrary.libraries import choices, keep_all, library_of, mask_of, masks_of, rank_of
+from meltlibrary.libraries import sorted_library, sum_at, without
 from meltlibrary.plays import Play, all_rests, days_lost, state_of, states_behind
 from meltlibrary.schemes import every_tablet, sorted_rows
 
 
-def play_of(library, most):
-    """All that can happen to a library while its texts are kept."""
-    return Play([state_of(masks_of(library))], most, library[0])
-
-
-def library_of(texts, state):
-    """The sorted library of a state."""
-    return texts, tuple(sorted([tablet_of(mask) for mask in state]))
+def play_of(library, most, melts):
+    """All that can happen to a library while its texts are kept, so many tablets melting each day."""
+    return Play([state_of(masks_of(library))], most, library[0], melts)
 
 
 def best_rows(lost, masks, most, number):
@@ -28,13 +24,18 @@ def best_rows(lost, masks, most, number):
     return [row for row, day in zip(rows, days) if day == longest]
 
 
-def lost_within(library, most):
-    """The least number of days within which the enemy wins, None if it cannot."""
-    check_game(library, most)
+def soonest_loss(library, most, melts):
+    """The least number of days within which an enemy wins who lets so many tablets melt, None if it cannot."""
     masks = masks_of(library)
     if not keep_all(masks, library[0]):
         return 0
-    return days_lost(play_of(library, most)).get(state_of(masks))
+    return days_lost(play_of(library, most, melts)).get(state_of(masks))
+
+
+def lost_within(library, most):
+    """The least number of days within which the enemy wins, None if it cannot."""
+    check_game(library, most)
+    return soonest_loss(library, most, 1)
 
 
 def kept_for_ever(library, most):
@@ -49,7 +50,7 @@ def good_writings(library, most, number):
     masks = masks_of(library)
     if not keep_all(without(masks, number), library[0]):
         return ()
-    return tuple(best_rows(days_lost(play_of(library, most)), masks, most, number))
+    return tuple(best_rows(days_lost(play_of(library, most, 1)), masks, most, number))
 
 
 def chosen_states(play, lost, start):
@@ -66,10 +67,9 @@ def chosen_states(play, lost, start):
     return list(chosen)
 
 
-def family(library, most):
-    """A family that keeps the library, None if none does."""
-    check_game(library, most)
-    play = play_of(library, most)
+def found_family(library, most, melts):
+    """A family that keeps the library while so many tablets melt each day, None if none does."""
+    play = play_of(library, most, melts)
     lost = days_lost(play)
     start = state_of(masks_of(library))
     if start in lost:
@@ -77,11 +77,17 @@ def family(library, most):
     return tuple(sorted([library_of(library[0], state) for state in chosen_states(play, lost, start)]))
 
 
+def family(library, most):
+    """A family that keeps the library, None if none does."""
+    check_game(library, most)
+    return found_family(library, most, 1)
+
+
 def is_sorted_library(value, texts, many):
     """Whether a value is a sorted library of so many texts and tablets."""
     if wrong_part(value) is not None or value[0] != texts or len(value[1]) != many:
         return False
-    return value[1] == tuple(sorted(value[1]))
+    return value == sorted_library(value)
 
 
 def are_sorted_libraries(value, texts, many):
@@ -93,25 +99,30 @@ def are_sorted_libraries(value, texts, many):
     return all([one < other for one, other in zip(value, value[1:])])
 
 
-def keep_each_other(states, texts, most):
+def keep_each_other(states, texts, most, melts):
     """Whether behind each melting all texts are kept and one of the states can be written again."""
     for state in states:
-        for rest in all_rests(state):
-            if not any(other in states for other in states_behind(rest, most, texts)):
+        for rest in all_rests(state, melts):
+            if not any(other in states for other in states_behind(rest, most, texts, melts)):
                 return False
     return True
+
+
+def is_found_family(library, most, melts, value):
+    """Whether a value is what found_family may return."""
+    if value is None:
+        return soonest_loss(library, most, melts) is not None
+    texts, tablets = library
+    if not are_sorted_libraries(value, texts, len(tablets)):
+        return False
+    states = {state_of(masks_of(one)): True for one in value}
+    return state_of(masks_of(library)) in states and keep_each_other(states, texts, most, melts)
 
 
 def shows_family(library, most, value):
     """Whether a value is what family may return."""
     check_game(library, most)
-    if value is None:
-        return not kept_for_ever(library, most)
-    texts, tablets = library
-    if not are_sorted_libraries(value, texts, len(tablets)):
-        return False
-    states = {state_of(masks_of(one)): True for one in value}
-    return state_of(masks_of(library)) in states and keep_each_other(states, texts, most)
+    return is_found_family(library, most, 1, value)
 
 
 def is_lost_within(play, lost, rest, days):
@@ -131,7 +142,7 @@ def downfall(library, most):
     masks = masks_of(library)
     if not keep_all(masks, library[0]):
         return ()
-    play = play_of(library, most)
+    play = play_of(library, most, 1)
     lost = days_lost(play)
     start = state_of(masks)
     if start not in lost:
@@ -148,7 +159,7 @@ def downfall(library, most):
 def is_rank_kept(masks, most, goal):
     """Whether the rank behind each melting can be kept at a goal or above for ever."""
     start = state_of(masks)
-    return start not in days_lost(Play([start], most, goal))
+    return start not in days_lost(Play([start], most, goal, 1))
 
 
 def rank_kept(library, most):
@@ -167,7 +178,7 @@ def kept_additions(library, most, many):
     rows = sorted_rows(every_tablet(texts), many)
     starts = [state_of([mask_of(tablet) for tablet in tablets + row]) for row in rows]
     # One play for all of them, as most of what can happen to them is the same.
-    lost = days_lost(Play(starts, most, texts))
+    lost = days_lost(Play(starts, most, texts, 1))
     return [row for row, start in zip(rows, starts) if start not in lost]
 
 

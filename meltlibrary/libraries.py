@@ -14,6 +14,16 @@ def tablet_of(mask):
     return tuple([text for text in range(MOST_TEXTS) if (mask >> text) & 1])
 
 
+def library_of(texts, masks):
+    """The sorted library of the masks."""
+    return texts, tuple(sorted([tablet_of(mask) for mask in masks]))
+
+
+def sorted_library(library):
+    """The library with its tablets in ascending order."""
+    return library[0], tuple(sorted(library[1]))
+
+
 def masks_of(library):
     """The tablets of a library as a new list of numbers."""
     return [mask_of(tablet) for tablet in library[1]]

@@ -9,9 +9,13 @@ def state_of(masks):
     return tuple(sorted(masks))
 
 
-def all_rests(state):
-    """What is left of a state, for each of its masks that can melt."""
-    return [state[:place] + state[place + 1:] for place in range(len(state))]
+def all_rests(state, melts):
+    """What is left of a state, for each lot of so many of its masks that can melt."""
+    rows = [(state, 0)]
+    for _ in range(melts):
+        # A lot is taken in ascending order alone, so that it is taken once.
+        rows = [(row[:at] + row[at + 1:], at) for row, low in rows for at in range(low, len(row))]
+    return [row for row, _ in rows]
 
 
 def sums_of_few(masks, most):
@@ -23,34 +27,43 @@ def sums_of_few(masks, most):
     return sums
 
 
-def states_behind(rest, most, goal):
-    """The list of the states that a writing makes of what is left, none if its rank is below a goal."""
+def states_behind(rest, most, goal, melts):
+    """The list of the states that so many writings make of what is left, none if its rank is below a goal."""
     if rank_of(rest) < goal:
         return []
-    return [state_of([*rest, fresh]) for fresh in sums_of_few(rest, most)]
+    states = [rest]
+    for _ in range(melts):
+        # Each writing may use what the ones ahead of it have written.
+        states = sorted({state_of([*state, fresh]) for state in states for fresh in sums_of_few(state, most)})
+    return states
 
 
 class Play:
     """All states that can come of some, for as long as the rank of what is left reaches a goal.
 
-    Texts are kept exactly if the rank is their number, which is then the goal. `rests` has
-    what can be left of each state, `states` the states behind each of these.
+    Texts are kept exactly if the rank is their number, which is then the goal. Each day so
+    many masks as melts says melt at once. `rests` has what can be left of each state,
+    `states` the states behind each of these.
     """
 
-    def __init__(self, starts, most, goal):
+    def __init__(self, starts, most, goal, melts):
         self.rests = {}
         self.states = {}
         waiting = list(starts)
         while waiting:
             state = waiting.pop()
             if state not in self.rests:
-                rests = all_rests(state)
+                rests = all_rests(state, melts)
                 self.rests[state] = rests
                 for rest in rests:
                     if rest not in self.states:
-                        behind = states_behind(rest, most, goal)
+                        behind = states_behind(rest, most, goal, melts)
                         self.states[rest] = behind
                         waiting.extend(behind)
+
+    def comes_again(self, state):
+        """Whether a librarian can write a state again behind whatever melting."""
+        return all(state in self.states[rest] for rest in self.rests[state])
 
     def is_lost(self, rest, lost):
         """Whether a librarian cannot but write a state that is lost."""

@@ -1,6 +1,6 @@
 """Values that are not allowed, with the error that each must raise and its fields."""
 
-from meltlibrary.errors import BadDays, BadLibrary, BadMost, BadNumber, BadString, BadTablet
+from meltlibrary.errors import BadDays, BadLibrary, BadMost, BadNumber, BadShown, BadString, BadTablet
 
 HUGE = 10 ** 30
 
@@ -114,3 +114,58 @@ def chance_days_errors():
 
 def string_errors():
     return [(value, BadString, {}) for value in wrong_strings()]
+
+
+def wrong_figures(many):
+    """Values that are no tuple of so many figures, each 0 or 1."""
+    good = (0, 1, 1, 0, 1, 0, 0, 1)[:many]
+    found = STRANGE + [
+        (), good[1:], good + (0,), good * 2 + good, [*good], {figure: 1 for figure in range(many)}, "01101001"[:many],
+        (good,), (good,) * many, ([],) * many, ({},) * many, ("",) * many, ("0",) * many, (True,) * many,
+        (False,) * many, (None,) * many, ((),) * many, (2,) * many, (-1,) * many, ([0],) * many, ((0,),) * many,
+    ]
+    for odd in STRANGE + [2, -2, -HUGE, "0", "1", (), (0,), ((),), [1], {1: 1}]:
+        if type(odd) is not int or odd not in (0, 1):
+            # In the first place, in the last one, and alone beside good ones.
+            found += [(odd,) + good[1:], good[:-1] + (odd,), good + (odd,)]
+    return found
+
+
+def wrong_melting_rows():
+    """Pairs of a value that is no melting row of a library of three tablets, and the index."""
+    found = [(value, None) for value in STRANGE]
+    found += [(value, None) for value in [
+        [0, 1], [()], {0: 1}, {(0,): 0}, "01", (0,) * 9, (0, 1, 2) * 3, (None,) * 9, (9,) + (0,) * 8, (0,) * 100,
+    ]]
+    for odd in STRANGE + [3, -2, -HUGE, "0", "1", (), (0,), ((),), [1], {1: 1}, (0, ())]:
+        if type(odd) is not int or odd not in (0, 1, 2):
+            found += [((odd,), 0), ((0, 1, 2, odd, odd), 3), ((2,) * 7 + (odd,), 7), ((odd, None, 0), 0)]
+    return found
+
+
+def melts_errors(many):
+    """For a library of so many tablets."""
+    return [(value, BadNumber, {}) for value in wrong_counts(min(3, many))]
+
+
+def late_errors(many):
+    """For a library of so many tablets."""
+    return [(value, BadNumber, {}) for value in wrong_integers(0, min(3, many - 1))]
+
+
+def wrong_errors():
+    return [(value, BadNumber, {}) for value in wrong_integers(0, 6)]
+
+
+def shown_errors(many):
+    return [(value, BadShown, {}) for value in wrong_figures(many)]
+
+
+def melting_row_errors():
+    """For a library of three tablets."""
+    return [(value, BadDays, {"index": index}) for value, index in wrong_melting_rows()]
+
+
+def scheme_number_errors(many):
+    """For so many schemes, at least one."""
+    return [(value, BadNumber, {}) for value in wrong_integers(0, many - 1)]
